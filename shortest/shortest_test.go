@@ -106,7 +106,7 @@ func chain(n, there, back int) api.Topology {
 	return t
 }
 
-// crowded returns the topology with 24 routers and 60 links that has the most shortest paths: each router has links from some before it, and all paths between two routers cost the same.
+// crowded returns the topology with 24 routers and 60 links that has the most shortest paths of those that a search has gone through: each router has links from some before it, at most eight, and all paths between two routers cost the same.
 func crowded() api.Topology {
 	var t api.Topology
 	for i, links := range []int{0, 1, 2, 3, 2, 3, 3, 2, 3, 3, 2, 3, 3, 3, 3, 3, 2, 3, 3, 2, 3, 3, 2, 3} {
@@ -375,7 +375,7 @@ func TestPathsKnown(t *testing.T) {
 	}
 }
 
-// P6.4: the most shortest paths that a topology can have. It is less than the limit, so this number is exact.
+// P6.4: as many shortest paths as are known to be possible. They are fewer than the limit, so this number is exact.
 func TestPathsMost(t *testing.T) {
 	n := crowded()
 	if len(n.Routers) != 24 || len(n.Links) != 60 || topology.Check(n) != api.OK {

@@ -122,33 +122,39 @@ func places(a *api.Advert) []limited {
 	}
 }
 
-// defects returns ways to make an advert with at least three links and claims, that are neither the first nor the last ones that there may be, not valid.
-func defects() map[string]func(a *api.Advert) {
-	return map[string]func(a *api.Advert){
-		"Router 0":             func(a *api.Advert) { a.Router = 0 },
-		"Router 100":           func(a *api.Advert) { a.Router = 100 },
-		"Seq 0":                func(a *api.Advert) { a.Seq = 0 },
-		"Seq 1000001":          func(a *api.Advert) { a.Seq = 1000001 },
-		"Neighbour 0":          func(a *api.Advert) { a.Links[0].Neighbour = 0 },
-		"Neighbour 100":        func(a *api.Advert) { a.Links[len(a.Links)-1].Neighbour = 100 },
-		"own Router":           func(a *api.Advert) { a.Router = a.Links[1].Neighbour },
-		"Cost 0":               func(a *api.Advert) { a.Links[0].Cost = 0 },
-		"Cost 1001":            func(a *api.Advert) { a.Links[len(a.Links)-1].Cost = 1001 },
-		"Capacity 1001":        func(a *api.Advert) { a.Links[1].Capacity = 1001 },
-		"two equal Neighbours": func(a *api.Advert) { a.Links[1].Neighbour = a.Links[0].Neighbour },
-		"order of Links":       func(a *api.Advert) { a.Links[0], a.Links[1] = a.Links[1], a.Links[0] },
-		"order of last Links": func(a *api.Advert) {
+// defect is a way to make an advert not valid.
+type defect struct {
+	name string
+	make func(a *api.Advert)
+}
+
+// defects returns ways to make an advert with at least three links and claims not valid.
+func defects() []defect {
+	return []defect{
+		{"Router 0", func(a *api.Advert) { a.Router = 0 }},
+		{"Router 100", func(a *api.Advert) { a.Router = 100 }},
+		{"Seq 0", func(a *api.Advert) { a.Seq = 0 }},
+		{"Seq 1000001", func(a *api.Advert) { a.Seq = 1000001 }},
+		{"Neighbour 0", func(a *api.Advert) { a.Links[0].Neighbour = 0 }},
+		{"Neighbour 100", func(a *api.Advert) { a.Links[len(a.Links)-1].Neighbour = 100 }},
+		{"own Router", func(a *api.Advert) { a.Router = a.Links[1].Neighbour }},
+		{"Cost 0", func(a *api.Advert) { a.Links[0].Cost = 0 }},
+		{"Cost 1001", func(a *api.Advert) { a.Links[len(a.Links)-1].Cost = 1001 }},
+		{"Capacity 1001", func(a *api.Advert) { a.Links[1].Capacity = 1001 }},
+		{"two equal Neighbours", func(a *api.Advert) { a.Links[1].Neighbour = a.Links[0].Neighbour }},
+		{"order of Links", func(a *api.Advert) { a.Links[0], a.Links[1] = a.Links[1], a.Links[0] }},
+		{"order of last Links", func(a *api.Advert) {
 			n := len(a.Links)
 			a.Links[n-1], a.Links[n-2] = a.Links[n-2], a.Links[n-1]
-		},
-		"ID 0":                 func(a *api.Advert) { a.Claims[0].ID = 0 },
-		"ID 257":               func(a *api.Advert) { a.Claims[len(a.Claims)-1].ID = 257 },
-		"two equal Subdomains": func(a *api.Advert) { a.Claims[1].Subdomain = a.Claims[0].Subdomain },
-		"order of Claims":      func(a *api.Advert) { a.Claims[0], a.Claims[1] = a.Claims[1], a.Claims[0] },
-		"order of last Claims": func(a *api.Advert) {
+		}},
+		{"ID 0", func(a *api.Advert) { a.Claims[0].ID = 0 }},
+		{"ID 257", func(a *api.Advert) { a.Claims[len(a.Claims)-1].ID = 257 }},
+		{"two equal Subdomains", func(a *api.Advert) { a.Claims[1].Subdomain = a.Claims[0].Subdomain }},
+		{"order of Claims", func(a *api.Advert) { a.Claims[0], a.Claims[1] = a.Claims[1], a.Claims[0] }},
+		{"order of last Claims", func(a *api.Advert) {
 			n := len(a.Claims)
 			a.Claims[n-1], a.Claims[n-2] = a.Claims[n-2], a.Claims[n-1]
-		},
+		}},
 	}
 }
 
@@ -192,10 +198,10 @@ func invalids() []api.Advert {
 		l = append(l, a)
 	}
 	next := random(2)
-	for _, spoil := range defects() {
+	for _, d := range defects() {
 		for range 3 {
 			a := randomAdvert(next, 3+next(20), 3+next(5))
-			spoil(&a)
+			d.make(&a)
 			l = append(l, a)
 		}
 	}
@@ -392,15 +398,15 @@ func TestValid(t *testing.T) {
 // P7.1: each defect, in small and great adverts, makes an advert not valid; each element is looked at.
 func TestValidDefects(t *testing.T) {
 	next := random(3)
-	for name, spoil := range defects() {
+	for _, d := range defects() {
 		for range 50 {
 			a := randomAdvert(next, 3+next(20), 3+next(5))
 			if !advert.Valid(a) {
 				t.Fatalf("the advert %v should be valid", a)
 			}
-			spoil(&a)
+			d.make(&a)
 			if advert.Valid(a) {
-				t.Errorf("%s: the advert %v should not be valid", name, a)
+				t.Errorf("%s: the advert %v should not be valid", d.name, a)
 			}
 		}
 	}
@@ -690,10 +696,10 @@ func TestDecodeLong(t *testing.T) {
 func fits() []api.Advert {
 	var l []api.Advert
 	next := random(5)
-	for _, spoil := range defects() {
+	for _, d := range defects() {
 		for range 10 {
 			a := randomAdvert(next, 3+next(20), 3+next(5))
-			spoil(&a)
+			d.make(&a)
 			l = append(l, a)
 		}
 	}
